@@ -1,0 +1,1 @@
+"""Doors that bar the last person who went through."""

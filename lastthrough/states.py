@@ -1,0 +1,110 @@
+"""States and plans: their checks, the possible moves and what plans do."""
+
+from lastthrough.errors import InvalidCount, InvalidPerson, InvalidPlan, InvalidState, MoveBlocked
+from lastthrough.houses import doors_by_ends, is_index, is_whole, need_house
+
+
+def has_state_shape(house, value):
+    """Return whether the value is two tuples, as long as a state of the house needs them."""
+    if not isinstance(value, tuple) or len(value) != 2:
+        return False
+    rooms, barred = value
+    if not isinstance(rooms, tuple) or not isinstance(barred, tuple):
+        return False
+    return len(rooms) >= 1 and len(barred) == len(house)
+
+
+def check_state(house, value):
+    """Return None for a state of the house, otherwise the first reason why it is none."""
+    need_house(house)
+    if not has_state_shape(house, value):
+        return ("shape",)
+    rooms, barred = value
+    for person, room in enumerate(rooms):
+        if not is_index(room, len(house) + 1):
+            return ("room", person)
+    for door, person in enumerate(barred):
+        if not is_index(person, len(rooms)):
+            return ("barred", door)
+    return None
+
+
+def is_move(doors, people, value):
+    """Return whether the value is a tuple of a person and the two ends of one of the doors."""
+    if not isinstance(value, tuple) or len(value) != 3:
+        return False
+    person, start, end = value
+    if not is_index(person, people) or not is_whole(start) or not is_whole(end):
+        return False
+    return (start, end) in doors
+
+
+def check_plan(house, people, value):
+    """Return None for a plan for so many people, otherwise the first reason why it is none."""
+    need_house(house)
+    need_people(people)
+    if not isinstance(value, list):
+        return ("plan",)
+    doors = doors_by_ends(house)
+    for index, move in enumerate(value):
+        if not is_move(doors, people, move):
+            return ("move", index)
+    return None
+
+
+def need_people(people):
+    """Raise InvalidCount unless the value is a number of people."""
+    if not is_whole(people) or people < 1:
+        raise InvalidCount()
+
+
+def need_state(house, state):
+    """Raise InvalidHouse or InvalidState unless the values are a house and a state of it."""
+    reason = check_state(house, state)
+    if reason is not None:
+        raise InvalidState(reason)
+
+
+def need_plan(house, people, plan):
+    """Raise InvalidPlan unless the value is a plan for the house and so many people."""
+    reason = check_plan(house, people, plan)
+    if reason is not None:
+        raise InvalidPlan(reason)
+
+
+def need_person(state, person):
+    """Raise InvalidPerson unless the value is a person of the state."""
+    if not is_index(person, len(state[0])):
+        raise InvalidPerson(person)
+
+
+def possible_moves(house, state):
+    """Return the sorted list of all moves that are possible in the state."""
+    need_state(house, state)
+    rooms, barred = state
+    moves = []
+    for door, (a, b) in enumerate(house):
+        for person, room in enumerate(rooms):
+            if room == a and barred[door] != person:
+                moves.append((person, a, b))
+            if room == b and barred[door] != person:
+                moves.append((person, b, a))
+    return sorted(moves)
+
+
+def play(house, state, plan):
+    """Return the state after the moves of the plan."""
+    need_state(house, state)
+    need_plan(house, len(state[0]), plan)
+    doors = doors_by_ends(house)
+    rooms = list(state[0])
+    barred = list(state[1])
+    for index, (person, start, end) in enumerate(plan):
+        door = doors[(start, end)]
+        if rooms[person] != start:
+            raise MoveBlocked(index, ("away",))
+        if barred[door] == person:
+            raise MoveBlocked(index, ("barred",))
+        rooms[person] = end
+        barred[door] = person
+    return (tuple(rooms), tuple(barred))

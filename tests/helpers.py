@@ -1,0 +1,117 @@
+"""Houses, states and wrong values for the tests, and answers straight from the definitions."""
+
+import itertools
+import random
+import unittest
+
+ROW3 = ((0, 1), (1, 2))
+STAR4 = ((0, 1), (0, 2), (0, 3))
+FORK5 = ((0, 1), (1, 2), (2, 3), (2, 4))
+
+NOT_WHOLE = (None, True, False, 0.0, 1.0, "0", "", b"0", [], [0], (), (0,), {}, {0: 0})
+HUGE = 10 ** 899
+
+
+def row_house(rooms):
+    return tuple((room, room + 1) for room in range(rooms - 1))
+
+
+def star_house(rooms):
+    return tuple((0, room) for room in range(1, rooms))
+
+
+def comb_house(rooms):
+    """A row of the even rooms, with the odd rooms as its teeth."""
+    return tuple((max(0, room - 1 if room & 1 else room - 2), room) for room in range(1, rooms))
+
+
+def random_house(rng, rooms):
+    names = list(range(rooms))
+    rng.shuffle(names)
+    doors = []
+    for place in range(1, rooms):
+        ends = [names[place], names[rng.randrange(place)]]
+        rng.shuffle(ends)
+        doors.append(tuple(ends))
+    rng.shuffle(doors)
+    return tuple(doors)
+
+
+def random_state(rng, house, people):
+    rooms = tuple(rng.randrange(len(house) + 1) for _ in range(people))
+    return rooms, tuple(rng.randrange(people) for _ in house)
+
+
+def sample_houses():
+    """Houses of several shapes and sizes, the same ones each time."""
+    rng = random.Random(7)
+    houses = [(), ((1, 0),), ROW3, STAR4, FORK5, row_house(30), star_house(30), comb_house(30)]
+    return houses + [random_house(rng, rooms) for rooms in (3, 4, 5, 6, 8, 12, 20, 30)]
+
+
+def sample_states():
+    """Pairs of a house and a state of one to six people."""
+    rng = random.Random(11)
+    samples = []
+    for house in sample_houses():
+        for people in range(1, 7):
+            samples.extend((house, random_state(rng, house, people)) for _ in range(3))
+    return samples
+
+
+def all_states(house, people):
+    rooms = itertools.product(range(len(house) + 1), repeat=people)
+    barred = itertools.product(range(people), repeat=len(house))
+    return list(itertools.product(rooms, barred))
+
+
+def moves_by_definition(house, state):
+    rooms, barred = state
+    moves = []
+    for person, start in enumerate(rooms):
+        for door, (a, b) in enumerate(house):
+            if start in (a, b) and barred[door] != person:
+                moves.append((person, start, a + b - start))
+    return sorted(moves)
+
+
+def state_after(house, state, move):
+    person, start, end = move
+    rooms = list(state[0])
+    rooms[person] = end
+    barred = [person if set(ends) == {start, end} else who for who, ends in zip(state[1], house)]
+    return tuple(rooms), tuple(barred)
+
+
+def walks_by_definition(house, state, person):
+    """All plans in which only this person moves, each with the state after it."""
+    walks = []
+    waiting = [([], state)]
+    while waiting:
+        plan, here = waiting.pop()
+        walks.append((plan, here))
+        for move in moves_by_definition(house, here):
+            if move[0] == person:
+                waiting.append((plan + [move], state_after(house, here, move)))
+    return walks
+
+
+def region_by_definition(house, state, person):
+    found = {state[0][person]}
+    grown = True
+    while grown:
+        more = {room for door, ends in enumerate(house) if state[1][door] != person
+                for room in ends if found & set(ends)}
+        grown = not more <= found
+        found |= more
+    return sorted(found)
+
+
+class ErrorCase(unittest.TestCase):
+    """A test case that can also tell the fields of errors."""
+
+    def assert_error(self, error, fields, call, *arguments, **named):
+        with self.assertRaises(Exception) as caught:
+            call(*arguments, **named)
+        self.assertIs(caught.exception.__class__, error)
+        self.assertEqual(repr(vars(caught.exception)), repr(fields))

@@ -1,0 +1,131 @@
+"""Promise [2] and the interface: names, arguments, and what happens to them."""
+
+import copy
+import importlib
+import inspect
+import unittest
+
+from tests.helpers import FORK5, ROW3, STAR4
+
+PARAMETERS = {
+    "houses": {
+        "check_house": ("value",),
+        "path_between": ("house", "a", "b"),
+        "far_side": ("house", "door", "room"),
+    },
+    "states": {
+        "check_state": ("house", "value"),
+        "check_plan": ("house", "people", "value"),
+        "possible_moves": ("house", "state"),
+        "play": ("house", "state", "plan"),
+    },
+    "regions": {
+        "region": ("house", "state", "person"),
+        "walk_to": ("house", "state", "person", "room"),
+        "is_apart": ("house", "state"),
+        "walk_lengths": ("house", "state"),
+    },
+}
+
+APART = ((0, 2), (0, 1, 0, 0))
+
+CALLS = {
+    "check_house": ((([0, 1], [1, 2]),), (((0, 1), [1], {0: [1]}),)),
+    "path_between": ((FORK5, 0, 4), (FORK5, 3, 3)),
+    "far_side": ((STAR4, 0, 1), (STAR4, 2, 0)),
+    "check_state": ((ROW3, ((0, 1), (0, 1))), (ROW3, [[0, 1], [0, 1]])),
+    "check_plan": ((ROW3, 2, [(0, 0, 1)]), (ROW3, 2, [(0, 0, 1), [0, [1], {}]])),
+    "possible_moves": ((ROW3, ((0, 2), (1, 0))), (ROW3, ((1,), (0, 0)))),
+    "play": ((ROW3, ((0, 2), (1, 0)), [(0, 0, 1), (1, 2, 1)]), (ROW3, ((0, 2), (1, 0)), [])),
+    "region": ((FORK5, APART, 0), (FORK5, APART, 1)),
+    "walk_to": ((FORK5, APART, 1, 4), (FORK5, APART, 1, 2), (FORK5, APART, 0, 4)),
+    "is_apart": ((FORK5, APART), (ROW3, ((0, 2), (1, 0)))),
+    "walk_lengths": ((FORK5, APART), (ROW3, ((0, 2), (1, 0)))),
+}
+
+
+def lists_in(value):
+    """All lists inside the value, the value itself included."""
+    if isinstance(value, dict):
+        return [inner for worth in value.values() for inner in lists_in(worth)]
+    if not isinstance(value, (list, tuple)):
+        return []
+    own = [value] if isinstance(value, list) else []
+    return own + [inner for worth in value for inner in lists_in(worth)]
+
+
+def functions():
+    """Each function with the parameters that the interface lists."""
+    found = []
+    for file, listed in PARAMETERS.items():
+        module = importlib.import_module("lastthrough." + file)
+        found.extend((getattr(module, name), parameters) for name, parameters in listed.items())
+    return found
+
+
+def calls():
+    """Each function with the arguments of some calls."""
+    return [(function, arguments) for function, _ in functions() for arguments in CALLS[function.__name__]]
+
+
+class TestConventions(unittest.TestCase):
+
+    def test_defined_where_the_interface_lists_them(self):
+        for file, listed in PARAMETERS.items():
+            module = importlib.import_module("lastthrough." + file)
+            for name in listed:
+                self.assertEqual(getattr(module, name).__module__, module.__name__)
+
+    def test_parameters(self):
+        for function, parameters in functions():
+            with self.subTest(function=function.__name__):
+                signature = inspect.signature(function)
+                self.assertEqual(tuple(signature.parameters), parameters)
+                for parameter in signature.parameters.values():
+                    self.assertEqual(parameter.kind, inspect.Parameter.POSITIONAL_OR_KEYWORD)
+
+    def test_keyword_arguments(self):
+        for function, arguments in calls():
+            with self.subTest(arguments=arguments, function=function.__name__):
+                named = dict(reversed(list(zip(inspect.signature(function).parameters, arguments))))
+                self.assertEqual(function(**named), function(*arguments))
+
+    def test_arguments_are_not_modified(self):
+        for function, arguments in calls():
+            with self.subTest(arguments=arguments, function=function.__name__):
+                before = copy.deepcopy(arguments)
+                function(*arguments)
+                self.assertEqual(repr(arguments), repr(before))
+
+    def test_lists_are_new(self):
+        for function, arguments in calls():
+            with self.subTest(arguments=arguments, function=function.__name__):
+                first = function(*arguments)
+                expected = copy.deepcopy(first)
+                given = [id(inner) for inner in lists_in(arguments)]
+                found = [id(inner) for inner in lists_in(first)]
+                self.assertEqual(len(set(found)), len(found))
+                self.assertFalse(set(found) & set(given))
+                for inner in lists_in(first):
+                    inner.append("changed")
+                self.assertEqual(function(*arguments), expected)
+
+    def test_changed_argument(self):
+        from lastthrough.states import check_plan, play
+        plan = [(0, 0, 1), (1, 2, 1)]
+        after = play(ROW3, ((0, 2), (1, 0)), plan)
+        self.assertIsNone(check_plan(ROW3, 2, plan))
+        plan[1] = (0, 0, 2)
+        self.assertEqual(after, ((1, 1), (0, 1)))
+        self.assertEqual(check_plan(ROW3, 2, plan), ("move", 1))
+        del plan[1]
+        self.assertEqual(play(ROW3, ((0, 2), (1, 0)), plan), ((1, 2), (0, 0)))
+
+    def test_same_arguments_same_result(self):
+        for function, arguments in calls():
+            with self.subTest(arguments=arguments, function=function.__name__):
+                self.assertEqual(repr(function(*arguments)), repr(function(*copy.deepcopy(arguments))))
+
+
+if __name__ == "__main__":
+    unittest.main()
