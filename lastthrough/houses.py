@@ -122,13 +122,22 @@ def steps_along(ways, room):
     return steps
 
 
+def steps_between(house, a, b):
+    """Return the steps (door, start, end) from room a to room b."""
+    return steps_along(ways_from(house, b, []), a)
+
+
+def doors_between(house, a, b):
+    """Return the list of the doors on the way from room a to room b, both of them rooms of the house."""
+    return [door for door, start, end in steps_between(house, a, b)]
+
+
 def path_between(house, a, b):
     """Return the list of the doors on the way from room a to room b."""
     need_house(house)
     need_room(house, a)
     need_room(house, b)
-    steps = steps_along(ways_from(house, b, []), a)
-    return [door for door, start, end in steps]
+    return doors_between(house, a, b)
 
 
 def far_side(house, door, room):

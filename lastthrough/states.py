@@ -65,6 +65,13 @@ def need_state(house, state):
         raise InvalidState(reason)
 
 
+def need_state_of_as_many(house, state, other):
+    """Raise InvalidState unless the other value is a state, too, and of as many people."""
+    need_state(house, other)
+    if len(other[0]) != len(state[0]):
+        raise InvalidState(("people",))
+
+
 def need_plan(house, people, plan):
     """Raise InvalidPlan unless the value is a plan for the house and so many people."""
     reason = check_plan(house, people, plan)
@@ -76,6 +83,11 @@ def need_person(state, person):
     """Raise InvalidPerson unless the value is a person of the state."""
     if not is_index(person, len(state[0])):
         raise InvalidPerson(person)
+
+
+def replaced(values, index, value):
+    """Return the tuple with this value in the place of the one at the index."""
+    return values[:index] + (value,) + values[index + 1:]
 
 
 def possible_moves(house, state):

@@ -1,7 +1,10 @@
 """Houses, states and wrong values for the tests, and answers straight from the definitions."""
 
+import collections
+import functools
 import itertools
 import random
+import time
 import unittest
 
 ROW3 = ((0, 1), (1, 2))
@@ -105,6 +108,64 @@ def region_by_definition(house, state, person):
         grown = not more <= found
         found |= more
     return sorted(found)
+
+
+def search(house, start):
+    """The fewest moves to each state that can come about from the start."""
+    moves = {start: 0}
+    waiting = collections.deque(moves)
+    while waiting:
+        here = waiting.popleft()
+        for move in moves_by_definition(house, here):
+            after = state_after(house, here, move)
+            if after not in moves:
+                moves[after] = moves[here] + 1
+                waiting.append(after)
+    return moves
+
+
+@functools.lru_cache(None)
+def sides_by_definition(house, door):
+    """The two sides of the door, that of its first end first."""
+    near = {house[door][0]}
+    grown = True
+    while grown:
+        more = {room for other, ends in enumerate(house) if other != door and near & set(ends) for room in ends}
+        grown = not more <= near
+        near |= more
+    return near, set(range(len(house) + 1)) - near
+
+
+def path_by_definition(house, a, b):
+    """The doors that have the two rooms on different sides, in the order of the way from a to b."""
+    between = [(len(near if a in near else far), door) for door in range(len(house))
+               for near, far in [sides_by_definition(house, door)] if (a in near) != (b in near)]
+    return [door for _, door in sorted(between)]
+
+
+def groups_by_definition(house, state):
+    """The set of the final groups, each a frozen set of rooms."""
+    groups = {frozenset([room]) for room in range(len(house) + 1)}
+    joined = True
+    while joined:
+        joined = False
+        for door, (a, b) in enumerate(house):
+            one, = (group for group in groups if a in group)
+            other, = (group for group in groups if b in group)
+            if one != other and state[0][state[1][door]] in one | other:
+                groups = groups - {one, other} | {one | other}
+                joined = True
+    return groups
+
+
+def quick(call, *arguments):
+    """The result of a call that must not take long."""
+    began = time.perf_counter()
+    result = call(*arguments)
+    took = time.perf_counter() - began
+    if took > 5:
+        raise AssertionError(f"{call.__name__} took {took:.1f} seconds")
+    return result
 
 
 class ErrorCase(unittest.TestCase):

@@ -25,9 +25,39 @@ PARAMETERS = {
         "is_apart": ("house", "state"),
         "walk_lengths": ("house", "state"),
     },
+    "meetings": {
+        "first_meeting": ("house", "state"),
+        "check_first_meeting": ("house", "state", "claim"),
+        "gather": ("house", "state", "room"),
+        "check_gathering": ("house", "state", "room", "claim"),
+    },
+    "origins": {
+        "groups": ("house", "state"),
+        "explained_doors": ("house", "state"),
+        "count_previous": ("house", "state"),
+        "previous_at": ("house", "state", "index"),
+        "previous_index": ("house", "state", "previous"),
+    },
+    "reach": {
+        "find_plan": ("house", "start", "target"),
+        "check_reach": ("house", "start", "target", "claim"),
+    },
+    "pairs": {
+        "kept_bits": ("house", "state"),
+        "state_of_bits": ("house", "bits", "a", "b"),
+        "can_meet": ("house", "bits", "a", "b"),
+        "can_follow": ("house", "bits", "a", "b"),
+        "count_pairs": ("house", "bits"),
+        "pair_distance": ("house", "start", "target"),
+    },
 }
 
 APART = ((0, 2), (0, 1, 0, 0))
+MEETING = ((0, 2), (1, 0))
+MET = ((1, 1), (0, 1))
+STAR_APART = ((1, 2, 3), (0, 1, 2))
+CROWD = ((0, 0, 0), (0, 1, 2))
+PLAN = [(0, 0, 1), (1, 2, 1)]
 
 CALLS = {
     "check_house": ((([0, 1], [1, 2]),), (((0, 1), [1], {0: [1]}),)),
@@ -41,6 +71,28 @@ CALLS = {
     "walk_to": ((FORK5, APART, 1, 4), (FORK5, APART, 1, 2), (FORK5, APART, 0, 4)),
     "is_apart": ((FORK5, APART), (ROW3, ((0, 2), (1, 0)))),
     "walk_lengths": ((FORK5, APART), (ROW3, ((0, 2), (1, 0)))),
+    "first_meeting": ((ROW3, MEETING), (ROW3, MET), (STAR4, STAR_APART)),
+    "check_first_meeting": ((ROW3, MEETING, (2, PLAN)), (ROW3, MEETING, (2, [[0], {0: []}]))),
+    "gather": ((ROW3, MEETING, 0), (ROW3, MET, 1), (STAR4, CROWD, 3), (STAR4, STAR_APART, 0), (FORK5, APART, 2)),
+    "check_gathering": (
+        (ROW3, MEETING, 1, ("plan", PLAN)), (FORK5, APART, 0, ("apart", [[0], [2, 3, 4]])), (ROW3, MET, 1, [[], {}])),
+    "groups": ((ROW3, MEETING), (STAR4, CROWD), (FORK5, APART)),
+    "explained_doors": ((ROW3, MEETING), (STAR4, CROWD), (FORK5, APART)),
+    "count_previous": ((ROW3, MET), (STAR4, STAR_APART)),
+    "previous_at": ((ROW3, MET, 0), (ROW3, MET, 1), (STAR4, CROWD, 3)),
+    "previous_index": ((ROW3, MET, MEETING), (ROW3, MET, ((0, 1), (1, 1)))),
+    "find_plan": (
+        (ROW3, MEETING, MET), (ROW3, MET, MEETING), (STAR4, CROWD, ((0, 0, 0), (1, 1, 0))), (STAR4, CROWD, CROWD),
+        (FORK5, APART, ((0, 4), (0, 1, 0, 1)))),
+    "check_reach": (
+        (ROW3, MEETING, MET, ("plan", PLAN)), (ROW3, MET, MEETING, ("never", ("bit", 0))),
+        (ROW3, MET, MEETING, ["never", [{}, [0]]])),
+    "kept_bits": ((ROW3, MEETING), (FORK5, APART)),
+    "state_of_bits": ((ROW3, (1, 0), 0, 1), (FORK5, (1, 0, 0, 1), 4, 0)),
+    "can_meet": ((ROW3, (1, 0), 0, 2), (FORK5, (1, 0, 0, 1), 4, 0)),
+    "can_follow": ((ROW3, (1, 0), 0, 2), (FORK5, (1, 0, 0, 1), 4, 0)),
+    "count_pairs": ((ROW3, (1, 0)), ((), ())),
+    "pair_distance": ((ROW3, MEETING, MET), (ROW3, MET, MEETING)),
 }
 
 
@@ -120,6 +172,16 @@ class TestConventions(unittest.TestCase):
         self.assertEqual(check_plan(ROW3, 2, plan), ("move", 1))
         del plan[1]
         self.assertEqual(play(ROW3, ((0, 2), (1, 0)), plan), ((1, 2), (0, 0)))
+
+    def test_changed_claim(self):
+        from lastthrough.meetings import check_gathering
+        from lastthrough.reach import check_reach
+        plan = list(PLAN)
+        self.assertIsNone(check_gathering(ROW3, MEETING, 1, ("plan", plan)))
+        self.assertIsNone(check_reach(ROW3, MEETING, MET, ("plan", plan)))
+        del plan[1]
+        self.assertEqual(check_gathering(ROW3, MEETING, 1, ("plan", plan)), ("room", 1))
+        self.assertEqual(check_reach(ROW3, MEETING, MET, ("plan", plan)), ("result",))
 
     def test_same_arguments_same_result(self):
         for function, arguments in calls():

@@ -82,6 +82,132 @@ True
 >>> walk_lengths(((0, 1), (1, 2), (2, 3), (2, 4)), ((0, 2), (0, 1, 0, 0)))
 [(0, 0), (1, 1)]
 """,
+    # [45]
+    """
+>>> from lastthrough.meetings import first_meeting
+>>> first_meeting(((0, 1), (1, 2)), ((0, 2), (1, 0)))[0]
+2
+""",
+    # [46]
+    """
+>>> from lastthrough.meetings import check_first_meeting
+>>> check_first_meeting(((0, 1), (1, 2)), ((0, 2), (1, 0)), (1, [(0, 0, 1)]))
+('meeting',)
+""",
+    # [47]
+    """
+>>> from lastthrough.meetings import gather
+>>> gather(((0, 1), (0, 2), (0, 3)), ((1, 2, 3), (0, 1, 2)), 0)
+('apart', [[1], [2], [3]])
+""",
+    # [48]
+    """
+>>> from lastthrough.meetings import check_gathering
+>>> check_gathering(((0, 1), (1, 2)), ((0, 2), (1, 0)), 1, ("apart", [[0, 1], [1, 2]]))
+('together',)
+""",
+    # [50]
+    """
+>>> from lastthrough.origins import groups
+>>> groups(((0, 1), (0, 2), (0, 3)), ((1, 2, 3), (0, 0, 1)))
+[[0, 1, 2, 3]]
+""",
+    """
+>>> from lastthrough.origins import groups
+>>> groups(((0, 1), (1, 2)), ((2, 0), (0, 1)))
+[[0], [1], [2]]
+""",
+    # [51]
+    """
+>>> from lastthrough.origins import explained_doors
+>>> explained_doors(((0, 1), (1, 2)), ((1, 2), (0, 0)))
+[0, 1]
+""",
+    # [52]
+    """
+>>> from lastthrough.origins import count_previous
+>>> count_previous(((0, 1), (1, 2)), ((1, 2), (0, 0)))
+2
+""",
+    """
+>>> from lastthrough.origins import previous_at
+>>> previous_at(((0, 1), (1, 2)), ((1, 2), (0, 0)), 1)
+((2, 2), (0, 1))
+""",
+    """
+>>> from lastthrough.origins import previous_index
+>>> previous_index(((0, 1), (1, 2)), ((1, 2), (0, 0)), ((0, 2), (1, 0)))
+0
+""",
+    # [60]
+    """
+>>> from lastthrough.reach import find_plan
+>>> find_plan(((0, 1), (1, 2)), ((0, 2), (1, 0)), ((1, 1), (0, 1)))[0]
+'plan'
+""",
+    """
+>>> from lastthrough.reach import find_plan
+>>> find_plan(((0, 1),), ((0, 0), (0,)), ((0, 0), (1,)))
+('never', ('bit', 0))
+""",
+    # [61]
+    """
+>>> from lastthrough.reach import find_plan
+>>> find_plan(((0, 1), (1, 2), (2, 3), (3, 4)), ((0, 2, 4), (2, 1, 2, 0)), ((0, 2, 4), (0, 1, 2, 0)))
+('never', ('order', 0, 1))
+""",
+    """
+>>> from lastthrough.reach import find_plan
+>>> find_plan(((0, 1),), ((0,), (0,)), ((1,), (0,)))
+('never', ('walk', 0))
+""",
+    """
+>>> from lastthrough.reach import find_plan
+>>> find_plan(((0, 1), (1, 2), (2, 3)), ((0, 3), (1, 1, 0)), ((0, 3), (0, 1, 0)))
+('never', ('still', 0))
+""",
+    # [62]
+    """
+>>> from lastthrough.reach import check_reach
+>>> check_reach(((0, 1), (1, 2)), ((1, 1), (0, 1)), ((2, 0), (0, 1)), ("never", ("person", 1, 0)))
+None
+""",
+    # [70]
+    """
+>>> from lastthrough.pairs import kept_bits
+>>> kept_bits(((0, 1), (1, 2)), ((0, 1), (0, 0)))
+(1, 0)
+""",
+    # [71]
+    """
+>>> from lastthrough.pairs import state_of_bits
+>>> state_of_bits(((0, 1), (1, 2)), (1, 0), 0, 1)
+((0, 1), (0, 0))
+""",
+    # [72]
+    """
+>>> from lastthrough.pairs import can_meet
+>>> can_meet(((0, 1), (1, 2)), (1, 0), 0, 2)
+False
+""",
+    # [73]
+    """
+>>> from lastthrough.pairs import can_follow
+>>> can_follow(((0, 1), (1, 2)), (1, 0), 0, 2)
+True
+""",
+    # [74]
+    """
+>>> from lastthrough.pairs import count_pairs
+>>> count_pairs(((0, 1), (1, 2)), (1, 0))
+(8, 8, 7)
+""",
+    # [75]
+    """
+>>> from lastthrough.pairs import pair_distance
+>>> pair_distance(((0, 1),), ((0, 0), (0,)), ((1, 1), (0,)))
+2
+""",
 )
 
 
