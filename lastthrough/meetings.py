@@ -1,5 +1,6 @@
 """Meetings: the first one of two people, and all people in one room."""
 
+from lastthrough.claims import is_numbered
 from lastthrough.crowds import Walk, gather_in, meet_soonest
 from lastthrough.errors import MoveBlocked
 from lastthrough.houses import is_whole, need_room
@@ -27,18 +28,10 @@ def is_plan(house, state, value):
     return check_plan(house, len(state[0]), value) is None
 
 
-def is_number_and_plan(house, state, value):
-    """Return whether the value is a tuple of a whole number, 0 or more, and a plan."""
-    if not isinstance(value, tuple) or len(value) != 2:
-        return False
-    number, plan = value
-    return is_whole(number) and number >= 0 and is_plan(house, state, plan)
-
-
 def check_first_meeting(house, state, claim):
     """Return None for a valid result of first_meeting, otherwise the first fault of the claim."""
     need_state(house, state)
-    if claim is not None and not is_number_and_plan(house, state, claim):
+    if claim is not None and not (is_numbered(claim) and is_plan(house, state, claim[1])):
         return ("form",)
     if is_apart(house, state) != (claim is None):
         return ("apart",)

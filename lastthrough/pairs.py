@@ -1,8 +1,9 @@
 """Two people: kept bits, the pairs of rooms that belong together, and shortest ways."""
 
 from lastthrough.errors import InvalidBits, InvalidCount
-from lastthrough.houses import doors_between, exits_of, is_index, need_house, need_room
-from lastthrough.states import need_state, need_state_of_as_many, replaced
+from lastthrough.houses import doors_between, is_index, need_house, need_room
+from lastthrough.search import searched_plan
+from lastthrough.states import need_state, need_state_of_as_many
 
 
 def need_pair(state):
@@ -81,36 +82,6 @@ def pair_distance(house, start, target):
     need_state(house, start)
     need_state_of_as_many(house, start, target)
     need_pair(start)
-    exits = exits_of(house)
     # The kept bits stay, so that no more states are seen than there are pairs of rooms.
-    seen = {start: True}
-    newest = [start]
-    number = 0
-    while newest:
-        if target in seen:
-            return number
-        newest = unseen_after(exits, newest, seen)
-        number += 1
-    return None
-
-
-def unseen_after(exits, states, seen):
-    """Return the states one move after these ones that were not seen before, and mark them as seen."""
-    found = []
-    for state in states:
-        for after in states_after(exits, state):
-            if after not in seen:
-                seen[after] = True
-                found.append(after)
-    return found
-
-
-def states_after(exits, state):
-    """Return the list of the states that a single move leads to."""
-    rooms, barred = state
-    found = []
-    for person, room in enumerate(rooms):
-        for door, there in exits[room]:
-            if barred[door] != person:
-                found.append((replaced(rooms, person, there), replaced(barred, door, person)))
-    return found
+    plan = searched_plan(house, start, target)
+    return None if plan is None else len(plan)

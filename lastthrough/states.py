@@ -104,6 +104,18 @@ def possible_moves(house, state):
     return sorted(moves)
 
 
+def next_states(exits, state):
+    """Return a list of tuples (move, state after it) of all possible moves; the exits are those of exits_of."""
+    rooms, barred = state
+    found = []
+    for person, room in enumerate(rooms):
+        for door, there in exits[room]:
+            if barred[door] != person:
+                after = (replaced(rooms, person, there), replaced(barred, door, person))
+                found.append(((person, room, there), after))
+    return found
+
+
 def play(house, state, plan):
     """Return the state after the moves of the plan."""
     need_state(house, state)

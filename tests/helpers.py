@@ -110,6 +110,22 @@ def region_by_definition(house, state, person):
     return sorted(found)
 
 
+def apart_by_definition(house, state):
+    regions = [region_by_definition(house, state, person) for person in range(len(state[0]))]
+    return len({room for rooms in regions for room in rooms}) == sum(len(rooms) for rooms in regions)
+
+
+def row_apart(people):
+    """A row of 30 rooms in which each person goes straight through three more rooms and meets nobody."""
+    barred = [(door // 5 + 1) % people for door in range(29)]
+    for door in range(29):
+        if door % 5 == 3:
+            barred[door] = min(door // 5, people - 1)
+        if door % 5 == 4:
+            barred[door] = min(door // 5 + 1, people - 1)
+    return row_house(30), (tuple(range(0, 5 * people, 5)), tuple(barred))
+
+
 def search(house, start):
     """The fewest moves to each state that can come about from the start."""
     moves = {start: 0}

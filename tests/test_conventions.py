@@ -50,6 +50,23 @@ PARAMETERS = {
         "count_pairs": ("house", "bits"),
         "pair_distance": ("house", "start", "target"),
     },
+    "search": {
+        "shortest_plan": ("house", "start", "target"),
+    },
+    "counting": {
+        "count_states": ("house", "people"),
+        "count_apart": ("house", "people"),
+        "count_frozen": ("house", "people"),
+        "count_following": ("house", "state"),
+    },
+    "walks": {
+        "count_plans": ("house", "state", "length"),
+        "plan_at": ("house", "state", "length", "index"),
+    },
+    "openings": {
+        "fewest_openings": ("house", "state"),
+        "check_openings": ("house", "state", "claim"),
+    },
 }
 
 APART = ((0, 2), (0, 1, 0, 0))
@@ -93,6 +110,16 @@ CALLS = {
     "can_follow": ((ROW3, (1, 0), 0, 2), (FORK5, (1, 0, 0, 1), 4, 0)),
     "count_pairs": ((ROW3, (1, 0)), ((), ())),
     "pair_distance": ((ROW3, MEETING, MET), (ROW3, MET, MEETING)),
+    "shortest_plan": ((ROW3, MEETING, MET), (ROW3, MET, MEETING), (ROW3, MET, MET), (STAR4, CROWD, CROWD)),
+    "count_states": ((ROW3, 2), ((), 3)),
+    "count_apart": ((ROW3, 2), (FORK5, 1)),
+    "count_frozen": ((STAR4, 3), ((), 3)),
+    "count_following": ((FORK5, APART), (ROW3, MEETING)),
+    "count_plans": ((FORK5, APART, 1), (ROW3, MEETING, 3), (STAR4, STAR_APART, 0)),
+    "plan_at": ((FORK5, APART, 1, 1), (ROW3, MEETING, 3, 0), (STAR4, STAR_APART, 0, 0)),
+    "fewest_openings": ((STAR4, STAR_APART), (ROW3, MEETING), ((), ((0,), ()))),
+    "check_openings": (
+        (STAR4, STAR_APART, (1, [(0, 1)])), (ROW3, MEETING, (0, [])), (STAR4, STAR_APART, (1, [[0], {0: []}]))),
 }
 
 
@@ -182,6 +209,14 @@ class TestConventions(unittest.TestCase):
         del plan[1]
         self.assertEqual(check_gathering(ROW3, MEETING, 1, ("plan", plan)), ("room", 1))
         self.assertEqual(check_reach(ROW3, MEETING, MET, ("plan", plan)), ("result",))
+
+    def test_changed_list_of_changes(self):
+        from lastthrough.openings import check_openings
+        changes = [(0, 1)]
+        claim = (1, changes)
+        self.assertIsNone(check_openings(STAR4, STAR_APART, claim))
+        changes[0] = (0, 0)
+        self.assertEqual(check_openings(STAR4, STAR_APART, claim), ("same", 0))
 
     def test_same_arguments_same_result(self):
         for function, arguments in calls():

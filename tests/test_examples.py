@@ -208,6 +208,57 @@ True
 >>> pair_distance(((0, 1),), ((0, 0), (0,)), ((1, 1), (0,)))
 2
 """,
+    # [78]
+    """
+>>> from lastthrough.search import shortest_plan
+>>> shortest_plan(((0, 1),), ((0, 0), (0,)), ((1, 1), (0,)))
+[(1, 0, 1), (0, 0, 1)]
+""",
+    # [80]
+    """
+>>> from lastthrough.counting import count_states
+>>> count_states(((0, 1), (1, 2)), 2)
+36
+""",
+    """
+>>> from lastthrough.counting import count_apart
+>>> count_apart(((0, 1), (1, 2)), 2)
+2
+""",
+    """
+>>> from lastthrough.counting import count_frozen
+>>> count_frozen(((0, 1), (0, 2), (0, 3)), 3)
+6
+""",
+    # [81]
+    """
+>>> from lastthrough.counting import count_following
+>>> count_following(((0, 1), (1, 2), (2, 3), (2, 4)), ((0, 2), (0, 1, 0, 0)))
+3
+""",
+    # [82]
+    """
+>>> from lastthrough.walks import count_plans
+>>> count_plans(((0, 1), (1, 2), (2, 3), (2, 4)), ((0, 2), (0, 1, 0, 0)), 1)
+2
+""",
+    """
+>>> from lastthrough.walks import plan_at
+>>> plan_at(((0, 1),), ((0, 0), (0,)), 2, 0)
+[(1, 0, 1), (0, 0, 1)]
+""",
+    # [85]
+    """
+>>> from lastthrough.openings import fewest_openings
+>>> fewest_openings(((0, 1), (0, 2), (0, 3)), ((1, 2, 3), (0, 1, 2)))[0]
+1
+""",
+    # [86]
+    """
+>>> from lastthrough.openings import check_openings
+>>> check_openings(((0, 1), (0, 2), (0, 3)), ((1, 2, 3), (0, 1, 2)), (1, [(0, 0)]))
+('same', 0)
+""",
 )
 
 
