@@ -31,24 +31,28 @@ def is_plan(house, state, value):
 def check_first_meeting(house, state, claim):
     """Return None for a valid result of first_meeting, otherwise the first fault of the claim."""
     need_state(house, state)
-    if claim is not None and not (is_numbered(claim) and is_plan(house, state, claim[1])):
+    return first_meeting_fault(house, state, claim, check_plan, play, first_meeting)
+
+
+def first_meeting_fault(house, state, claim, check_moves, play_moves, answer):
+    """Return the first fault of a claim to be a valid result of the function `answer`, or None.
+
+    The other two functions check and play the plan or the schedule of such a result.
+    """
+    if claim is not None and not (is_numbered(claim) and check_moves(house, len(state[0]), claim[1]) is None):
         return ("form",)
     if is_apart(house, state) != (claim is None):
         return ("apart",)
     if claim is None:
         return None
-    return meeting_fault(house, state, claim[0], claim[1])
-
-
-def meeting_fault(house, state, number, plan):
-    """Return the first fault of a number and a plan for a together state, or None."""
+    number, moves = claim
     try:
-        rooms, barred = play(house, state, plan)
+        rooms, barred = play_moves(house, state, moves)
     except MoveBlocked as blocked:
         return ("blocked", blocked.index)
     if len(set(rooms)) == len(rooms):
         return ("meeting",)
-    if number != len(plan) or number != first_meeting(house, state)[0]:
+    if number != len(moves) or number != answer(house, state)[0]:
         return ("number",)
     return None
 

@@ -116,11 +116,8 @@ def next_states(exits, state):
     return found
 
 
-def play(house, state, plan):
-    """Return the state after the moves of the plan."""
-    need_state(house, state)
-    need_plan(house, len(state[0]), plan)
-    doors = doors_by_ends(house)
+def played(doors, state, plan):
+    """Return the state after the moves of a plan that was checked; the doors are those of doors_by_ends."""
     rooms = list(state[0])
     barred = list(state[1])
     for index, (person, start, end) in enumerate(plan):
@@ -132,3 +129,10 @@ def play(house, state, plan):
         rooms[person] = end
         barred[door] = person
     return (tuple(rooms), tuple(barred))
+
+
+def play(house, state, plan):
+    """Return the state after the moves of the plan."""
+    need_state(house, state)
+    need_plan(house, len(state[0]), plan)
+    return played(doors_by_ends(house), state, plan)

@@ -7,12 +7,29 @@ import random
 import time
 import unittest
 
+from lastthrough import errors
+from lastthrough.regions import is_apart
+
 ROW3 = ((0, 1), (1, 2))
 STAR4 = ((0, 1), (0, 2), (0, 3))
 FORK5 = ((0, 1), (1, 2), (2, 3), (2, 4))
 
+BAD_HOUSES = (
+    (list(ROW3), ("shape",)),
+    (None, ("shape",)),
+    (((0, 1), [1, 2]), ("door", 1)),
+    (((0, 1), (1, True)), ("door", 1)),
+    (((0, 1), (1, 0)), ("ring", 1)),
+)
+
 NOT_WHOLE = (None, True, False, 0.0, 1.0, "0", "", b"0", [], [0], (), (0,), {}, {0: 0})
 HUGE = 10 ** 899
+
+# No plans for two people in ROW3.
+NO_PLANS = (
+    None, True, 0, "plan", (), ((0, 0, 1),), {}, [None], [0], [[0, 0, 1]], [(0, 0)], [(0, 0, 1, 1)], [(0, 0, 2)],
+    [(0, 0, 0)], [(2, 0, 1)], [(-1, 0, 1)], [(False, 0, 1)], [(0, False, 1)], [(0, 0, True)], [(0, 0, 1.0)],
+    [(0, 0, "1")], [(0, 1, 3)], [(0, 0, HUGE)], [(0, 0, 1), (1, 2, 1), (1, 2)])
 
 
 def row_house(rooms):
@@ -84,6 +101,93 @@ def state_after(house, state, move):
     rooms[person] = end
     barred = [person if set(ends) == {start, end} else who for who, ends in zip(state[1], house)]
     return tuple(rooms), tuple(barred)
+
+
+def random_plan(rng, house, people, length):
+    """A plan of doors and people by chance, which hardly ever can be played."""
+    return [(rng.randrange(people), *rng.sample(rng.choice(house), 2)) for _ in range(length)]
+
+
+def playable_plan(rng, house, state, length):
+    """A plan by chance that can be played, as long as something is possible, and the state after it."""
+    plan = []
+    here = state
+    while len(plan) < length:
+        moves = moves_by_definition(house, here)
+        if not moves:
+            break
+        plan.append(rng.choice(moves))
+        here = state_after(house, here, plan[-1])
+    return plan, here
+
+
+def swing_plan(length):
+    """Two people who go to and fro through door (0, 1), person 0 always first."""
+    turns = ((0, 0, 1), (1, 0, 1), (0, 1, 0), (1, 1, 0))
+    return [turns[index % 4] for index in range(length)]
+
+
+def outcome_by_definition(house, state, plan):
+    """The state after the plan, or None if it cannot be played from the state."""
+    here = state
+    for move in plan:
+        if move not in moves_by_definition(house, here):
+            return None
+        here = state_after(house, here, move)
+    return here
+
+
+def can_be_exchanged(move, other):
+    """Whether two moves are by different people through different doors."""
+    return move[0] != other[0] and set(move[1:]) != set(other[1:])
+
+
+def rearrangements(plan):
+    """All rearrangements of the plan, in sorted order."""
+    found = {tuple(plan)}
+    waiting = list(found)
+    while waiting:
+        here = waiting.pop()
+        for at in range(len(here) - 1):
+            if can_be_exchanged(here[at], here[at + 1]):
+                there = (*here[:at], here[at + 1], here[at], *here[at + 2:])
+                if there not in found:
+                    found.add(there)
+                    waiting.append(there)
+    return [list(other) for other in sorted(found)]
+
+
+def rearranged(rng, plan, exchanges):
+    """The plan after some of its exchanges by chance."""
+    plan = list(plan)
+    for at in rng.choices(range(max(1, len(plan) - 1)), k=exchanges):
+        if len(plan) > 1 and can_be_exchanged(plan[at], plan[at + 1]):
+            plan[at:at + 2] = plan[at + 1], plan[at]
+    return plan
+
+
+def lasting_plan(rng, house, state, length):
+    """A plan by chance from a together state that never brings the people apart, so that it can get so long."""
+    plan = []
+    here = state
+    while len(plan) < length:
+        move = rng.choice(moves_by_definition(house, here))
+        after = state_after(house, here, move)
+        if not is_apart(house, after):
+            plan.append(move)
+            here = after
+    return plan
+
+
+@functools.lru_cache(None)
+def large_plans():
+    """The largest houses with states of the most people and plans of 2,000 moves that can be played from them."""
+    rng = random.Random(163)
+    found = []
+    for house in (row_house(30), star_house(30), comb_house(30), random_house(rng, 30)):
+        state = (0,) * 6, tuple(rng.randrange(6) for _ in house)
+        found.append((house, state, lasting_plan(rng, house, state, 2000)))
+    return found
 
 
 def walks_by_definition(house, state, person):
@@ -184,8 +288,34 @@ def quick(call, *arguments):
     return result
 
 
+def reason_of_plan(people, plan):
+    """The reason why a value is no plan for so many people in ROW3."""
+    if not isinstance(plan, list):
+        return ("plan",)
+    moves = {(who, *ends) for who in range(people) for a, b in ROW3 for ends in ((a, b), (b, a))}
+    for index, move in enumerate(plan):
+        if repr(move) not in {repr(good) for good in moves}:
+            return ("move", index)
+    return None
+
+
 class ErrorCase(unittest.TestCase):
     """A test case that can also tell the fields of errors."""
+
+    def assert_plan_errors(self, call, *more):
+        """The errors of a call with a house, a number of people and a plan, in their order."""
+        for house, reason in BAD_HOUSES:
+            for people, plan in ((2, []), (0, None), (None, None)):
+                self.assert_error(errors.InvalidHouse, {"reason": reason}, call, house, people, plan, *more)
+        for people in NOT_WHOLE + (0, -1, -HUGE, 2.0, "2"):
+            for plan in ([], None, [None], [(5, 0, 1)]):
+                self.assert_error(errors.InvalidCount, {}, call, ROW3, people, plan, *more)
+        for plan in NO_PLANS:
+            reason = reason_of_plan(2, plan)
+            self.assertIsNotNone(reason)
+            self.assert_error(errors.InvalidPlan, {"reason": reason}, call, ROW3, 2, plan, *more)
+        self.assert_error(errors.InvalidPlan, {"reason": ("move", 0)}, call, ROW3, 1, [(1, 0, 1)], *more)
+        self.assert_error(errors.InvalidPlan, {"reason": ("move", 0)}, call, (), 2, [(0, 0, 1)], *more)
 
     def assert_error(self, error, fields, call, *arguments, **named):
         with self.assertRaises(Exception) as caught:

@@ -67,6 +67,33 @@ PARAMETERS = {
         "fewest_openings": ("house", "state"),
         "check_openings": ("house", "state", "claim"),
     },
+    "effects": {
+        "plan_effect": ("house", "people", "plan"),
+        "compare_plans": ("house", "people", "first", "second"),
+        "check_comparison": ("house", "people", "first", "second", "claim"),
+        "count_playable": ("house", "people", "plan"),
+    },
+    "orders": {
+        "normal_form": ("house", "people", "plan"),
+        "count_rearrangements": ("house", "people", "plan"),
+    },
+    "rounds": {
+        "check_schedule": ("house", "people", "value"),
+        "play_rounds": ("house", "state", "schedule"),
+        "schedule_of": ("house", "people", "plan"),
+        "first_meeting_round": ("house", "state"),
+        "check_meeting_round": ("house", "state", "claim"),
+    },
+}
+
+# The methods of a session, with the parameters that the interface lists.
+METHODS = {
+    "go": ("person", "room"),
+    "play": ("plan",),
+    "undo": (),
+    "state": (),
+    "moves": (),
+    "copy": (),
 }
 
 APART = ((0, 2), (0, 1, 0, 0))
@@ -75,6 +102,7 @@ MET = ((1, 1), (0, 1))
 STAR_APART = ((1, 2, 3), (0, 1, 2))
 CROWD = ((0, 0, 0), (0, 1, 2))
 PLAN = [(0, 0, 1), (1, 2, 1)]
+SCHEDULE = [[(0, 0, 1), (1, 2, 1)], [(1, 1, 0)]]
 
 CALLS = {
     "check_house": ((([0, 1], [1, 2]),), (((0, 1), [1], {0: [1]}),)),
@@ -120,6 +148,19 @@ CALLS = {
     "fewest_openings": ((STAR4, STAR_APART), (ROW3, MEETING), ((), ((0,), ()))),
     "check_openings": (
         (STAR4, STAR_APART, (1, [(0, 1)])), (ROW3, MEETING, (0, [])), (STAR4, STAR_APART, (1, [[0], {0: []}]))),
+    "plan_effect": ((ROW3, 2, PLAN), (ROW3, 2, []), (ROW3, 2, PLAN + PLAN), (ROW3, 1, PLAN[:1])),
+    "compare_plans": ((ROW3, 2, PLAN, PLAN[::-1]), (ROW3, 2, PLAN, PLAN[:1]), (ROW3, 2, [], PLAN)),
+    "check_comparison": (
+        (ROW3, 2, PLAN, PLAN[::-1], ("same",)), (ROW3, 2, PLAN, [], ("different", MEETING)),
+        (ROW3, 2, PLAN, [], ["different", [[0], {}]])),
+    "count_playable": ((ROW3, 2, PLAN), (ROW3, 2, PLAN + PLAN)),
+    "normal_form": ((ROW3, 2, PLAN[::-1]), (ROW3, 2, []), (STAR4, 3, [(2, 3, 0), (1, 2, 0), (0, 1, 0)])),
+    "count_rearrangements": ((ROW3, 2, PLAN), (ROW3, 2, [])),
+    "check_schedule": ((ROW3, 2, SCHEDULE), (ROW3, 2, [[(0, 0, 1)], [[0], {}]])),
+    "play_rounds": ((ROW3, MEETING, SCHEDULE), (ROW3, MEETING, [])),
+    "schedule_of": ((ROW3, 2, PLAN), (ROW3, 2, []), (ROW3, 2, PLAN + PLAN)),
+    "first_meeting_round": ((ROW3, MEETING), (ROW3, MET), (STAR4, STAR_APART), (FORK5, ((0, 4), (1, 1, 0, 1)))),
+    "check_meeting_round": ((ROW3, MEETING, (1, SCHEDULE[:1])), (ROW3, MEETING, (2, [[[0]], {0: []}]))),
 }
 
 
@@ -162,6 +203,24 @@ class TestConventions(unittest.TestCase):
                 self.assertEqual(tuple(signature.parameters), parameters)
                 for parameter in signature.parameters.values():
                     self.assertEqual(parameter.kind, inspect.Parameter.POSITIONAL_OR_KEYWORD)
+
+    def test_session(self):
+        sessions = importlib.import_module("lastthrough.sessions")
+        self.assertEqual(sessions.Session.__module__, sessions.__name__)
+        self.assertEqual(tuple(inspect.signature(sessions.Session).parameters), ("house", "state"))
+        for name in [*METHODS, "__len__", "__eq__"]:
+            self.assertIn(name, vars(sessions.Session))
+        for name, parameters in METHODS.items():
+            signature = inspect.signature(getattr(sessions.Session, name))
+            self.assertEqual(tuple(signature.parameters)[1:], parameters)
+            for parameter in signature.parameters.values():
+                self.assertEqual(parameter.kind, inspect.Parameter.POSITIONAL_OR_KEYWORD)
+
+    def test_every_file_of_the_interface(self):
+        for file in [*PARAMETERS, "errors", "sessions"]:
+            self.assertIsNotNone(importlib.import_module("lastthrough." + file).__doc__)
+        self.assertEqual(len(PARAMETERS), 14)
+        self.assertEqual(sum(len(listed) for listed in PARAMETERS.values()), 48)
 
     def test_keyword_arguments(self):
         for function, arguments in calls():
@@ -217,6 +276,15 @@ class TestConventions(unittest.TestCase):
         self.assertIsNone(check_openings(STAR4, STAR_APART, claim))
         changes[0] = (0, 0)
         self.assertEqual(check_openings(STAR4, STAR_APART, claim), ("same", 0))
+
+    def test_changed_schedule(self):
+        from lastthrough.rounds import check_schedule, play_rounds
+        schedule = [list(moves) for moves in SCHEDULE]
+        after = play_rounds(ROW3, MEETING, schedule)
+        self.assertIsNone(check_schedule(ROW3, 2, schedule))
+        schedule[0].clear()
+        self.assertEqual(after, ((1, 0), (1, 1)))
+        self.assertEqual(check_schedule(ROW3, 2, schedule), ("round", 0))
 
     def test_same_arguments_same_result(self):
         for function, arguments in calls():

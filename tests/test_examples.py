@@ -259,6 +259,81 @@ True
 >>> check_openings(((0, 1), (0, 2), (0, 3)), ((1, 2, 3), (0, 1, 2)), (1, [(0, 0)]))
 ('same', 0)
 """,
+    # [90]
+    """
+>>> from lastthrough.effects import plan_effect
+>>> plan_effect(((0, 1), (1, 2)), 2, [(1, 2, 1), (0, 0, 1), (1, 1, 0)])
+([(0, 0, 1), (1, 2, 0)], [(0, 0, 1), (1, 1, 1)])
+""",
+    # [91]
+    """
+>>> from lastthrough.effects import compare_plans
+>>> compare_plans(((0, 1), (1, 2)), 2, [(0, 0, 1), (1, 2, 1)], [(1, 2, 1), (0, 0, 1)])
+('same',)
+""",
+    # [92]
+    """
+>>> from lastthrough.effects import check_comparison
+>>> check_comparison(((0, 1), (1, 2)), 2, [], [(0, 0, 1)], ("different", ((2, 2), (1, 1))))
+None
+""",
+    # [93]
+    """
+>>> from lastthrough.effects import count_playable
+>>> count_playable(((0, 1), (1, 2)), 2, [(0, 0, 1)])
+6
+""",
+    # [95]
+    """
+>>> from lastthrough.orders import normal_form
+>>> normal_form(((0, 1), (1, 2)), 2, [(1, 2, 1), (0, 0, 1), (1, 1, 0)])
+[(0, 0, 1), (1, 2, 1), (1, 1, 0)]
+""",
+    # [96]
+    """
+>>> from lastthrough.orders import count_rearrangements
+>>> count_rearrangements(((0, 1), (1, 2)), 2, [(0, 0, 1), (1, 2, 1)])
+2
+""",
+    # [97]
+    """
+>>> from lastthrough.rounds import check_schedule
+>>> check_schedule(((0, 1), (1, 2)), 2, [[(0, 0, 1)], []])
+('round', 1)
+""",
+    # [98]
+    """
+>>> from lastthrough.rounds import play_rounds
+>>> play_rounds(((0, 1), (1, 2)), ((0, 2), (1, 0)), [[(0, 0, 1), (1, 2, 1)]])
+((1, 1), (0, 1))
+""",
+    # [99]
+    """
+>>> from lastthrough.rounds import schedule_of
+>>> schedule_of(((0, 1), (1, 2)), 2, [(1, 2, 1), (0, 0, 1), (1, 1, 0)])
+[[(0, 0, 1), (1, 2, 1)], [(1, 1, 0)]]
+""",
+    # [100]
+    """
+>>> from lastthrough.rounds import first_meeting_round
+>>> first_meeting_round(((0, 1), (1, 2)), ((0, 2), (1, 0)))
+(1, [[(0, 0, 1), (1, 2, 1)]])
+""",
+    # [101]
+    """
+>>> from lastthrough.rounds import check_meeting_round
+>>> check_meeting_round(((0, 1), (1, 2)), ((0, 2), (1, 0)), (2, [[(0, 0, 1)], [(1, 2, 1)]]))
+('number',)
+""",
+    # [114]
+    """
+>>> from lastthrough.sessions import Session
+>>> session = Session(((0, 1), (1, 2)), ((0, 2), (1, 0)))
+>>> here = session.go(0, 1)
+>>> session.undo()
+>>> [session.state() == here, session.moves(), len(session)]
+[False, [], 0]
+""",
 )
 
 

@@ -8,19 +8,14 @@ from lastthrough.meetings import check_first_meeting, check_gathering, first_mee
 from lastthrough.regions import is_apart
 from lastthrough.states import check_plan, play
 from tests.helpers import (
-    FORK5, HUGE, NOT_WHOLE, ROW3, STAR4, ErrorCase, all_states, comb_house, path_by_definition, quick, random_house,
-    random_state, region_by_definition, row_house, sample_states, search, star_house)
+    FORK5, HUGE, NO_PLANS, NOT_WHOLE, ROW3, STAR4, ErrorCase, all_states, comb_house, path_by_definition, quick,
+    random_house, random_state, region_by_definition, row_house, sample_states, search, star_house)
 
 SMALL = (((), 1), ((), 3), (((1, 0),), 3), (ROW3, 1), (ROW3, 2), (ROW3, 3), (STAR4, 2), (((3, 1), (0, 2), (1, 2)), 2))
 
 MEETING = ((0, 2), (1, 0))
 APART = ((0, 2), (0, 1))
 STAR_APART = ((1, 2, 3), (0, 1, 2))
-
-NO_PLANS = (
-    None, True, 0, "plan", (), ((0, 0, 1),), {}, [None], [0], [[0, 0, 1]], [(0, 0)], [(0, 0, 1, 1)], [(0, 0, 2)],
-    [(0, 0, 0)], [(2, 0, 1)], [(-1, 0, 1)], [(False, 0, 1)], [(0, False, 1)], [(0, 0, True)], [(0, 0, 1.0)],
-    [(0, 0, "1")], [(0, 1, 3)], [(0, 0, HUGE)], [(0, 0, 1), (1, 2, 1), (1, 2)])
 
 
 def cases():

@@ -6,40 +6,8 @@ import unittest
 from lastthrough.errors import InvalidCount, InvalidHouse, InvalidPlan, InvalidState, MoveBlocked
 from lastthrough.states import check_plan, check_state, play, possible_moves
 from tests.helpers import (
-    FORK5, HUGE, NOT_WHOLE, ROW3, STAR4, ErrorCase, moves_by_definition, random_house, random_state, row_house,
-    sample_states, star_house, state_after)
-
-BAD_HOUSES = (
-    (list(ROW3), ("shape",)),
-    (None, ("shape",)),
-    (((0, 1), [1, 2]), ("door", 1)),
-    (((0, 1), (1, True)), ("door", 1)),
-    (((0, 1), (1, 0)), ("ring", 1)),
-)
-
-
-def random_plan(rng, house, people, length):
-    """A plan of doors and people by chance, which hardly ever can be played."""
-    return [(rng.randrange(people), *rng.sample(rng.choice(house), 2)) for _ in range(length)]
-
-
-def playable_plan(rng, house, state, length):
-    """A plan by chance that can be played, as long as something is possible, and the state after it."""
-    plan = []
-    here = state
-    while len(plan) < length:
-        moves = moves_by_definition(house, here)
-        if not moves:
-            break
-        plan.append(rng.choice(moves))
-        here = state_after(house, here, plan[-1])
-    return plan, here
-
-
-def swing_plan(length):
-    """Two people who go to and fro through door (0, 1), person 0 always first."""
-    turns = ((0, 0, 1), (1, 0, 1), (0, 1, 0), (1, 1, 0))
-    return [turns[index % 4] for index in range(length)]
+    BAD_HOUSES, FORK5, HUGE, NOT_WHOLE, ROW3, STAR4, ErrorCase, moves_by_definition, playable_plan, random_house,
+    random_plan, random_state, row_house, sample_states, star_house, state_after, swing_plan)
 
 
 class TestCheckState(ErrorCase):
